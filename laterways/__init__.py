@@ -1,0 +1,1 @@
+"""Laterways: days of meetings whose ways get longer or shorter by the hour."""

@@ -1,0 +1,69 @@
+"""The interface of the document: names, arguments and where they are defined."""
+
+import importlib
+import inspect
+import unittest
+
+FUNCTIONS = {
+    "words": {
+        "is_name": "(text)",
+        "check_name": "(text)",
+        "check_number": "(what, value, low, high)",
+        "read_number": "(text)",
+    },
+}
+
+CLASSES = {
+    "errors": {
+        "CalendarError": {},
+        "BadName": {"__init__": "(self, name)"},
+        "BadNumber": {"__init__": "(self, what, value)"},
+        "BadRows": {"__init__": "(self, place)"},
+        "BadWay": {"__init__": "(self, start, end)"},
+        "BadRing": {"__init__": "(self, names)"},
+        "BadPaper": {"__init__": "(self, row, reason)"},
+        "BadRides": {"__init__": "(self, place)"},
+        "BadText": {"__init__": "(self, line)"},
+        "BadDeed": {"__init__": "(self, place)"},
+        "TooMany": {"__init__": "(self, limit)"},
+        "NotKept": {},
+        "NothingToUndo": {},
+    },
+    "rising": {
+        "Rising": {
+            "__init__": "(self, rows)", "__call__": "(self, t)", "back": "(self, minute)",
+            "levels": "(self, *, least=2)", "stay": "()", "steady": "(minutes)", "since": "(minute)",
+            "__eq__": None, "__le__": None, "__or__": None, "__and__": None, "__rshift__": None, "__add__": None,
+            "__radd__": None, "__len__": None, "__iter__": None, "__str__": None,
+        },
+    },
+}
+
+STATIC = ("stay", "steady", "since")
+
+
+class Interface(unittest.TestCase):
+    def test_functions(self):
+        for file, functions in FUNCTIONS.items():
+            module = importlib.import_module("laterways." + file)
+            for name, arguments in functions.items():
+                function = getattr(module, name)
+                self.assertEqual(function.__module__, module.__name__)
+                self.assertEqual(str(inspect.signature(function)), arguments, name)
+
+    def test_classes(self):
+        for file, classes in CLASSES.items():
+            module = importlib.import_module("laterways." + file)
+            for name, methods in classes.items():
+                kind = getattr(module, name)
+                self.assertEqual(kind.__module__, module.__name__)
+                for method, arguments in methods.items():
+                    self.assertIn(method, vars(kind), name)
+                    if method in STATIC:
+                        self.assertIsInstance(vars(kind)[method], staticmethod)
+                    if arguments is not None:
+                        self.assertEqual(str(inspect.signature(getattr(kind, method))), arguments, (name, method))
+
+
+if __name__ == "__main__":
+    unittest.main()
