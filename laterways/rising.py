@@ -133,25 +133,16 @@ def chosen(one, two, minute, upper):
     return (minute, second, two[2])
 
 
-def meeting_minute(one, two, start):
-    """The minute at which the lower row reaches the other one.
-
-    It is the start if neither row comes nearer to the other one.
-    """
-    gap = row_value(one, start) - row_value(two, start)
-    if gap > 0 and two[2] and not one[2]:
-        return start + gap
-    if gap < 0 and one[2] and not two[2]:
-        return start - gap
-    return start
-
-
 def joined(first, second, upper):
-    """Rows with the greater (or lesser) of both values at each minute."""
+    """Rows with the greater (or lesser) of both values at each minute.
+
+    On a stretch the rows come nearer by 1 each minute or not at all, so only
+    one minute is left at which the other row may become the right one.
+    """
     found = []
     for start, after, one, two in pieces(first, second):
         found.append(chosen(one, two, start, upper))
-        turn = meeting_minute(one, two, start)
+        turn = start + abs(row_value(one, start) - row_value(two, start))
         if start < turn and (after is None or turn < after):
             found.append(chosen(one, two, turn, upper))
     return found

@@ -102,6 +102,12 @@ class Point3ReadNumber(unittest.TestCase):
                 read_number(text)
             self.assertEqual((held.exception.what, held.exception.value), ("number", text))
 
+    def test_values_that_are_no_strings(self):
+        for value in (None, True, 7, b"7", ["7"], ["1", "2"]):
+            with self.assertRaises(BadNumber) as held:
+                read_number(value)
+            self.assertEqual(held.exception.what, "number")
+
 
 if __name__ == "__main__":
     unittest.main()
