@@ -11,6 +11,16 @@ FUNCTIONS = {
         "check_number": "(what, value, low, high)",
         "read_number": "(text)",
     },
+    "slots": {
+        "by_slots": "(length, minutes)",
+        "ride": "(length, minutes, leaving)",
+    },
+    "earliest": {
+        "earliest": "(day)",
+        "late": "(day)",
+        "can_be_kept": "(day)",
+        "fault": "(day, starts)",
+    },
 }
 
 CLASSES = {
@@ -35,6 +45,22 @@ CLASSES = {
             "levels": "(self, *, least=2)", "stay": "()", "steady": "(minutes)", "since": "(minute)",
             "__eq__": None, "__le__": None, "__or__": None, "__and__": None, "__rshift__": None, "__add__": None,
             "__radd__": None, "__len__": None, "__iter__": None, "__str__": None,
+        },
+    },
+    "ways": {
+        "Ways": {
+            "__init__": "(self, *places)", "told": "(self, start, end)", "copy": "(self)",
+            "__getitem__": None, "__setitem__": None, "__contains__": None, "__len__": None, "__eq__": None,
+            "__le__": None, "__add__": None,
+        },
+    },
+    "day": {
+        "Meeting": {"__init__": "(self, name, place, opens, latest, length)", "__eq__": None},
+        "Person": {"__init__": "(self, name, home, leaves, *meetings)", "__eq__": None},
+        "Day": {
+            "__init__": "(self, ways, meetings, people)", "leg_map": "(self, person, name)",
+            "attendees": "(self, name)", "order": "(self)",
+            "__getitem__": None, "__contains__": None, "__len__": None, "__eq__": None, "__add__": None,
         },
     },
 }

@@ -97,7 +97,8 @@ class Point3ReadNumber(unittest.TestCase):
             " 1", "1 ", "1\n", "\n1", "\n", " ", "1 2", "1_0", "1.", "1.0", "a", "1a", "0x1", "1e2", "one",
             "\u0661", "\u00b2", "\uff11",
         ]
-        for text in texts:
+        signs = [chr(code) for code in range(32, 127) if chr(code) not in "0123456789"]
+        for text in texts + signs + ["1" + sign for sign in signs] + [sign + "1" for sign in signs]:
             with self.assertRaises(BadNumber, msg=text) as held:
                 read_number(text)
             self.assertEqual((held.exception.what, held.exception.value), ("number", text))
