@@ -29,6 +29,20 @@ def check_counts(meetings, people):
     check_number("people", people, 0, MOST_PEOPLE)
 
 
+def check_times(opens, latest, length):
+    """Raise BadNumber for the first one that no meeting may have."""
+    check_number("opens", opens, 0, LAST_MINUTE)
+    check_number("latest", latest, opens, LAST_MINUTE)
+    check_number("length", length, 0, LONGEST_MEETING)
+
+
+def check_known(day, *names):
+    """Raise BadName for the first name that no meeting of the day has."""
+    for name in names:
+        if name not in day:
+            raise BadName(name)
+
+
 def check_meetings(places, meetings):
     """Raise BadName for the first name that is taken or place that is not there."""
     for count, meeting in enumerate(meetings):
@@ -116,9 +130,10 @@ class Meeting:
     def __init__(self, name, place, opens, latest, length):
         self.name = check_name(name)
         self.place = check_name(place)
-        self.opens = check_number("opens", opens, 0, LAST_MINUTE)
-        self.latest = check_number("latest", latest, opens, LAST_MINUTE)
-        self.length = check_number("length", length, 0, LONGEST_MEETING)
+        check_times(opens, latest, length)
+        self.opens = opens
+        self.latest = latest
+        self.length = length
 
     def __eq__(self, other):
         return (
@@ -168,6 +183,22 @@ class Day:
             raise BadName(name)
         return self._maps[person, name]
 
+    def leg_maps(self):
+        """The maps of the ways of all legs, in order."""
+        return {leg: self._maps[leg] for leg in self.legs}
+
+    def before(self, person, name):
+        """The name of the meeting directly before this one in the row, or None."""
+        row = self.person_named(person).meetings
+        place = row.index(name)
+        return row[place - 1] if place > 0 else None
+
+    def behind(self, person, name):
+        """The name of the meeting directly behind this one in the row, or None."""
+        row = self.person_named(person).meetings
+        place = row.index(name) + 1
+        return row[place] if place < len(row) else None
+
     def attendees(self, name):
         """The names of the people who attend the meeting, in order."""
         named(self.meetings, name)
@@ -207,6 +238,13 @@ class Day:
         for leg in other.legs:
             maps[leg] = other._maps[leg]
         return day_of(self.meetings + other.meetings, self.people + other.people, maps)
+
+
+def meeting_with(meeting, opens, latest, length):
+    """The meeting with other times; the length may be of a changed day, so it has no limit."""
+    made = Meeting(meeting.name, meeting.place, opens, latest, 0)
+    made.length = length
+    return made
 
 
 def day_of(meetings, people, maps):

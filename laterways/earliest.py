@@ -4,20 +4,32 @@ from laterways.errors import BadName
 from laterways.words import check_number, greater
 
 
-def leaving_minute(day, person, name, starts):
-    """The minute at which the person leaves for the meeting, by the starts."""
-    told = day.person_named(person)
-    place = told.meetings.index(name)
-    if place == 0:
-        return told.leaves
-    before = day[told.meetings[place - 1]]
-    return starts[before.name] + before.length
+def start_before(day, person, name, starts):
+    """The start of the meeting before in the row, or the minute of leaving home."""
+    before = day.before(person, name)
+    return day.person_named(person).leaves if before is None else starts[before]
+
+
+def arrival_after(day, person, name, minute, extra=0):
+    """The arrival at the meeting if the one before starts at the minute.
+
+    For the first meeting of the row it is the minute of leaving home. The
+    meeting before may take extra minutes.
+    """
+    before = day.before(person, name)
+    length = 0 if before is None else day[before].length
+    way = day.leg_map(person, name)
+    return way(minute + length + extra)
 
 
 def arrival(day, person, name, starts):
     """The minute at which the person arrives at the meeting, by the starts."""
-    way = day.leg_map(person, name)
-    return way(leaving_minute(day, person, name, starts))
+    return arrival_after(day, person, name, start_before(day, person, name, starts))
+
+
+def in_day_order(day, table):
+    """The table of all meetings in the order of the day."""
+    return {meeting.name: table[meeting.name] for meeting in day.meetings}
 
 
 def earliest(day):
@@ -28,7 +40,7 @@ def earliest(day):
         for person in day.attendees(name):
             start = greater(start, arrival(day, person, name, starts))
         starts[name] = start
-    return {meeting.name: starts[meeting.name] for meeting in day.meetings}
+    return in_day_order(day, starts)
 
 
 def late(day):

@@ -21,6 +21,43 @@ FUNCTIONS = {
         "can_be_kept": "(day)",
         "fault": "(day, starts)",
     },
+    "chains": {
+        "chain": "(day, name)",
+        "check_chain": "(day, rows)",
+    },
+    "moves": {
+        "latest_starts": "(day)",
+        "moves": "(day, name)",
+        "fixed": "(day, name, minute)",
+        "moves_with": "(day, name, minute, other)",
+        "meet_at": "(day, first, second)",
+    },
+    "slack": {
+        "longer": "(day, n, *legs)",
+        "slack": "(day, person, name)",
+        "slacks": "(day)",
+        "slack_of_all": "(day)",
+        "spare": "(day, starts)",
+    },
+    "changes": {
+        "changed": "(day, changes, chosen)",
+        "worst": "(day, changes)",
+        "safe": "(day, changes)",
+        "lateness": "(day, changes)",
+    },
+    "tables": {
+        "check_table": "(day, changes, table)",
+        "check_changed_chain": "(day, changes, rows)",
+        "worst_chain": "(day, changes, name)",
+    },
+    "sure": {
+        "surely": "(day, changes, name)",
+        "latest_under": "(day, changes)",
+    },
+    "told": {
+        "check_plan": "(told, rows)",
+        "plan_table": "(told)",
+    },
 }
 
 CLASSES = {
@@ -61,6 +98,16 @@ CLASSES = {
             "__init__": "(self, ways, meetings, people)", "leg_map": "(self, person, name)",
             "attendees": "(self, name)", "order": "(self)",
             "__getitem__": None, "__contains__": None, "__len__": None, "__eq__": None, "__add__": None,
+        },
+    },
+    "changes": {
+        "Changes": {"__init__": "(self, legs, lengths, most)"},
+    },
+    "told": {
+        "Told": {
+            "__init__": "(self, ways, stages)", "deadline": "(self, stage, place)",
+            "keeps": "(self, stage, place, minute)", "wait_at": "(self, stage, place, minute)",
+            "latest_telling": "(self, stage, place, minute)",
         },
     },
 }
