@@ -97,7 +97,7 @@ class Told:
         check_number("stages", len(stages), 0, MOST_STAGES)
         self._stages = [read_stage(ways.places, stage) for stage in stages]
         self.ways = ways.copy()
-        self._least = {place: ways.reach(place) for place in ways.places}
+        self._least = ways.reach_all()
         self._bounds = []
         self._ends = []
         self.reckon()

@@ -51,6 +51,10 @@ class Ways:
                             waiting.append(end)
         return found
 
+    def reach_all(self):
+        """For each place the least maps from there to all places that one can come to."""
+        return {place: self.reach(place) for place in self.places}
+
     def __getitem__(self, at):
         start, end = at
         self.check_places(start, end)

@@ -32,10 +32,15 @@ def some_parts(rng, many, wide=40, persons="abcdefgh"):
     return roads, meetings, people
 
 
-def made_day(roads, meetings, people):
+def made_ways(roads):
     ways = Ways(*PLACES)
     for pair, road in roads.items():
         ways[pair] = road
+    return ways
+
+
+def made_day(roads, meetings, people):
+    ways = made_ways(roads)
     rows = [Person(name, home, leaves, *row) for name, home, leaves, row in people]
     return Day(ways, [Meeting(*meeting) for meeting in meetings], rows)
 

@@ -375,3 +375,40 @@ def plan_fault(game, rows):
             if stage + 1 < len(game.stages) and not any(is_number(row[3]) and row[3] >= end for row in behind):
                 return (at, "next")
     return None
+
+
+class Errands:
+    """Point 37, by all orders one by one."""
+
+    def __init__(self, roads, errands):
+        self.roads, self.errands = roads, errands
+        self.comes = {}
+
+    def arrival(self, here, there, minute):
+        if (here, there, minute) not in self.comes:
+            self.comes[here, there, minute] = walk_arrival(self.roads, here, there, minute)
+        return self.comes[here, there, minute]
+
+    def end(self, place, minute, order):
+        """The end if they are done in this order, None if that cannot be."""
+        for number in order:
+            there, opens, latest, length = self.errands[number]
+            comes = self.arrival(place, there, minute)
+            if comes is None or max(comes, opens) > latest:
+                return None
+            place, minute = there, max(comes, opens) + length
+        return minute
+
+    def best(self, place, minute):
+        """The least (end, order), or None."""
+        found = []
+        for order in itertools.permutations(range(len(self.errands))):
+            end = self.end(place, minute, order)
+            if end is not None:
+                found.append((end, order))
+        return min(found) if found else None
+
+    def latest(self, place, until):
+        """The greatest minute below until at which one can begin, or None."""
+        fits = [minute for minute in range(until) if self.best(place, minute) is not None]
+        return fits[-1] if fits and self.errands else None

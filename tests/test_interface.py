@@ -58,6 +58,22 @@ FUNCTIONS = {
         "check_plan": "(told, rows)",
         "plan_table": "(told)",
     },
+    "errands": {
+        "best_end": "(ways, place, minute, errands)",
+        "latest_begin": "(ways, place, errands)",
+    },
+    "putting": {
+        "with_meeting": "(day, ways, meeting, gaps)",
+        "put_in": "(day, ways, meeting, *people)",
+    },
+    "whole": {
+        "leaving": "(day, person, minute)",
+        "start_map": "(day, person, name)",
+        "end_map": "(day, person)",
+        "never_later": "(first, second, person)",
+        "same_ends": "(first, second, person)",
+        "latest_leaving": "(day, person)",
+    },
 }
 
 CLASSES = {
