@@ -30,6 +30,10 @@ class Ways:
             raise BadWay(start, end)
         return self._roads[start, end]
 
+    def pairs(self):
+        """The starts and ends of all told ways, in the order of the places."""
+        return [(start, end) for start in self.places for end in self.places if (start, end) in self._roads]
+
     def reach(self, start):
         """The least maps from the start to all places that one can come to.
 

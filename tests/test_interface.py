@@ -74,6 +74,14 @@ FUNCTIONS = {
         "same_ends": "(first, second, person)",
         "latest_leaving": "(day, person)",
     },
+    "texts": {
+        "read_rising": "(text)",
+        "write_day": "(ways, day)",
+        "read_day": "(text)",
+    },
+    "console": {
+        "console": "(ways, day, lines)",
+    },
 }
 
 CLASSES = {
@@ -124,6 +132,20 @@ CLASSES = {
             "__init__": "(self, ways, stages)", "deadline": "(self, stage, place)",
             "keeps": "(self, stage, place, minute)", "wait_at": "(self, stage, place, minute)",
             "latest_telling": "(self, stage, place, minute)",
+        },
+    },
+    "rides": {
+        "Rides": {
+            "__init__": "(self, *rows)", "at_least": "(self, minute)", "at_most": "(self, minute)", "low": "(self)",
+            "fits": "(self, f)", "surely_late": "(self, left, minute)", "surely_in_time": "(self, left, minute)",
+            "__contains__": None, "__add__": None,
+        },
+    },
+    "calendar": {
+        "Calendar": {
+            "__init__": "(self, ways, day)", "load": "(self, day)", "move": "(self, name, minute)",
+            "delay": "(self, person, name, n)", "lengthen": "(self, name, n)", "leave": "(self, person, minute)",
+            "put": "(self, meeting, gaps)", "drop": "(self, name)", "undo": "(self)", "do_all": "(self, *deeds)",
         },
     },
 }

@@ -151,14 +151,42 @@ class Statements(unittest.TestCase):
                     self.assertIsInstance(right, ast.Constant, (path, node.lineno))
 
     def test_module_level(self):
+        """A table may have functions that are defined above it; other values are plain."""
         allowed = (ast.ImportFrom, ast.FunctionDef, ast.ClassDef, ast.Assign, ast.Expr)
         for path, tree in trees():
+            above = set()
             for node in tree.body:
                 self.assertIsInstance(node, allowed, (path, node.lineno))
+                if isinstance(node, ast.FunctionDef):
+                    above.add(node.name)
                 if isinstance(node, ast.Expr):
                     self.assertIsInstance(node.value, ast.Constant, path)
                 if isinstance(node, ast.Assign):
-                    ast.literal_eval(node.value)
+                    values = node.value.values if isinstance(node.value, ast.Dict) else [node.value]
+                    for value in values:
+                        if not isinstance(value, ast.Name) or value.id not in above:
+                            ast.literal_eval(value)
+
+    def test_a_function_from_a_table_gets_a_name_first(self):
+        for path, node in nodes(ast.Call):
+            self.assertIsInstance(node.func, (ast.Name, ast.Attribute), (path, node.lineno))
+
+    def test_stars_stand_over_names(self):
+        for path, node in nodes(ast.Starred):
+            self.assertIsInstance(node.value, (ast.Name, ast.Attribute), (path, node.lineno))
+
+    def test_what_a_loop_goes_over_is_not_changed_in_it(self):
+        """No method or assignment changes a name that a loop around it goes over."""
+        for path, node in nodes(ast.For):
+            over = {x.id for x in ast.walk(node.iter) if isinstance(x, ast.Name)}
+            for inner in [x for row in node.body for x in ast.walk(row)]:
+                if isinstance(inner, ast.Call) and isinstance(inner.func, ast.Attribute):
+                    if inner.func.attr in ("append", "extend", "insert", "pop", "remove", "clear", "update"):
+                        changed = inner.func.value.id if isinstance(inner.func.value, ast.Name) else ""
+                        self.assertNotIn(changed, over, (path, inner.lineno))
+                if isinstance(inner, ast.Subscript) and isinstance(inner.ctx, ast.Store):
+                    changed = inner.value.id if isinstance(inner.value, ast.Name) else ""
+                    self.assertNotIn(changed, over, (path, inner.lineno))
 
     def test_no_object_of_the_package_is_tested_for_truth_by_its_length(self):
         """Tests of conditions are comparisons, calls, names of booleans: no bare attribute."""
