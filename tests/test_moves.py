@@ -9,6 +9,7 @@ from laterways.day import Day, Meeting, Person
 from laterways.earliest import can_be_kept, earliest, fault
 from laterways.moves import fixed, latest_starts, meet_at, moves, moves_with
 from laterways.rising import Rising
+from laterways.slack import longer
 from laterways.ways import Ways
 from test_day import NO_INTEGERS
 from test_ways import NO_NAMES, WaysCase
@@ -220,6 +221,17 @@ class Point25(WaysCase):
         self.assertEqual(meet_at(day, "one", "two"), [4, 5, 6, 7, 11, 12, 13])
         self.assertEqual(meet_at(day, "two", "one"), [4, 5, 6, 7, 11, 12, 13])
         self.assertEqual(meet_at(example(), "first", "both"), [])
+
+    def test_two_people_go_from_one_to_the_other(self):
+        """Either of them may be the one who comes too late to meet."""
+        ways = Ways("a")
+        meetings = [Meeting("one", "a", 3, 9, 0), Meeting("mid", "a", 0, 90, 0), Meeting("two", "a", 5, 20, 0)]
+        people = [Person("ann", "a", 0, "one", "two"), Person("bob", "a", 0, "one", "mid", "two")]
+        day = Day(ways, meetings, people)
+        self.assertEqual(meet_at(day, "one", "two"), [5, 6, 7, 8, 9])
+        for leg in (("ann", "two"), ("bob", "mid"), ("bob", "two")):
+            self.assertEqual(meet_at(longer(day, 1, leg), "one", "two"), [])
+            self.assertEqual(meet_at(longer(day, 1, leg), "two", "one"), [])
 
     def test_one_with_itself(self):
         self.assertEqual(meet_at(example(), "first", "first"), [20, 21, 22, 23, 24, 25])
